@@ -1,0 +1,1 @@
+"""Ledgers in many coins."""

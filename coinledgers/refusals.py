@@ -1,0 +1,15 @@
+"""The numbers that refused calls answer."""
+
+OUT_OF_RANGE = -1
+NO_HOUSE = -2
+HOUSE_THERE = -3
+TOO_MANY = -4
+NO_UNIT = -5
+NO_ACCOUNT = -6
+MISFIT = -7
+UNEVEN = -8
+NO_ENTRY = -9
+NOT_CORRECTABLE = -10
+NOT_MOVABLE = -11
+NO_RATE = -12
+TOO_LATE = -13
