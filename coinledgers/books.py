@@ -83,6 +83,14 @@ def account_of(house, number):
     return house.accounts[number - 1]
 
 
+def has_entry(house, number):
+    return number <= len(house.entries)
+
+
+def entry_of(house, number):
+    return house.entries[number - 1]
+
+
 # Rates are told on days that never fall back, so the last one that is early enough holds.
 def rate_on(house, unit, day):
     if unit == HOME_UNIT:

@@ -1,81 +1,15 @@
 """A house, asked by a list of calls."""
 
-from coinledgers.books import House
+from coinledgers.books import House, account_of, has_account
 from coinledgers.makings import make_account, make_coin, make_house, make_thing, pass_days, tell_rate
+from coinledgers.overviews import tell_entry_info, tell_gains, tell_rate_on, tell_state, tell_trial, tell_unit
 from coinledgers.postings import close, correct, move, revalue, tell_entry
-from coinledgers.refusals import NO_HOUSE, OUT_OF_RANGE
-from coinledgers.tellings import tell_balance, tell_lots
-
-OPEN = 0
-COIN = 1
-THING = 2
-ACCOUNT = 3
-RATE = 4
-ENTRY = 5
-CORRECT = 6
-MOVE = 7
-REVALUE = 8
-CLOSE = 9
-PASS = 10
-BALANCE = 11
-
-# By the call's number: the kinds of its numbers, and for an entry those of one line.
-KINDS = {
-    0: (),
-    1: (),
-    2: ("unit",),
-    3: ("unit", "parent", "rule"),
-    4: ("unit", "share", "share"),
-    5: ("account", "amount", "amount", "amount"),
-    6: ("entry",),
-    7: ("account", "account", "amount"),
-    8: (),
-    9: (),
-    10: ("days",),
-    11: ("account",),
-    12: ("account",),
-}
-
-LOWEST = {
-    "unit": 1,
-    "parent": 0,
-    "rule": 0,
-    "share": 1,
-    "account": 1,
-    "amount": -1000000000,
-    "entry": 1,
-    "days": 1,
-}
-
-HIGHEST = {
-    "unit": 10,
-    "parent": 24,
-    "rule": 4,
-    "share": 1000000,
-    "account": 24,
-    "amount": 1000000000,
-    "entry": 150,
-    "days": 1000,
-}
-
-MOST_LINES = 6
-
-
-def length_fits(call, numbers):
-    many = len(KINDS[call])
-    if call != ENTRY:
-        return len(numbers) == many
-    return len(numbers) % many == 0 and many <= len(numbers) <= many * MOST_LINES
-
-
-def numbers_fit(call, numbers):
-    if not length_fits(call, numbers):
-        return False
-    for place, number in enumerate(numbers):
-        kind = KINDS[call][place % len(KINDS[call])]
-        if number < LOWEST[kind] or number > HIGHEST[kind]:
-            return False
-    return True
+from coinledgers.ranges import OPEN, COIN, THING, ACCOUNT, RATE, ENTRY, CORRECT, MOVE, REVALUE, CLOSE, PASS
+from coinledgers.ranges import BALANCE, LOTS, WORTH, TREE, TRIAL, ENTRY_INFO, KNOWN, KNOWN_ON, GAINS, WOULD, RATE_ON
+from coinledgers.ranges import UNIT, ACCOUNT_TOLD, length_of, numbers_fit
+from coinledgers.refusals import NO_ACCOUNT, NO_HOUSE, OUT_OF_RANGE
+from coinledgers.tellings import tell_account, tell_balance, tell_known, tell_known_on, tell_lots, tell_tree
+from coinledgers.tellings import tell_worth, tell_would
 
 
 def answer_of_making(house, call, numbers):
@@ -102,6 +36,46 @@ def answer_of_posting(house, call, numbers):
     return close(house)
 
 
+def answer_of_account(house, call, numbers):
+    number = numbers[0]
+    if not has_account(house, number):
+        return [NO_ACCOUNT]
+    account = account_of(house, number)
+    if call == BALANCE:
+        return tell_balance(account)
+    if call == LOTS:
+        return tell_lots(account)
+    if call == WORTH:
+        return tell_worth(house, account, numbers[1])
+    if call == TREE:
+        return tell_tree(house, number)
+    if call == KNOWN:
+        return tell_known(house, number, numbers[1])
+    if call == KNOWN_ON:
+        return tell_known_on(house, number, numbers[1])
+    if call == WOULD:
+        return tell_would(house, number, numbers[1], numbers[2], numbers[3])
+    return tell_account(account)
+
+
+def answer_of_overview(house, call, numbers):
+    if call == TRIAL:
+        return tell_trial(house)
+    if call == ENTRY_INFO:
+        return tell_entry_info(house, numbers[0])
+    if call == GAINS:
+        return tell_gains(house)
+    if call == RATE_ON:
+        return tell_rate_on(house, numbers[0], numbers[1])
+    if call == UNIT:
+        return tell_unit(house, numbers[0])
+    return tell_state(house)
+
+
+def is_of_one_account(call):
+    return call in (BALANCE, LOTS, WORTH, TREE, KNOWN, KNOWN_ON, WOULD, ACCOUNT_TOLD)
+
+
 def answer_of(house, call, numbers):
     if not numbers_fit(call, numbers):
         return [OUT_OF_RANGE]
@@ -113,9 +87,9 @@ def answer_of(house, call, numbers):
         return answer_of_posting(house, call, numbers)
     if call == PASS:
         return pass_days(house, numbers[0])
-    if call == BALANCE:
-        return tell_balance(house, numbers[0])
-    return tell_lots(house, numbers[0])
+    if is_of_one_account(call):
+        return answer_of_account(house, call, numbers)
+    return answer_of_overview(house, call, numbers)
 
 
 def answers(calls):
@@ -125,7 +99,7 @@ def answers(calls):
     while place < len(calls):
         call = calls[place]
         start = place + 1
-        many = len(KINDS[call])
+        many = length_of(call)
         if call == ENTRY:
             many = calls[start]
             start += 1

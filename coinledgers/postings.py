@@ -1,7 +1,7 @@
 """The calls that put an entry into the ledger."""
 
 from coinledgers.books import CLOSED, CORRECTION, HOME_UNIT, MOVE, TOLD, VALUED_ANEW, Line
-from coinledgers.books import account_of, entries_are_full, has_account, is_thing, put_entry
+from coinledgers.books import account_of, entries_are_full, entry_of, has_account, has_entry, is_thing, put_entry
 from coinledgers.deals import deal, gain_less, gain_sum
 from coinledgers.lots import sum_of, use
 from coinledgers.parts import are_against
@@ -57,9 +57,9 @@ def tell_entry(house, numbers):
 
 
 def correct(house, number):
-    if number > len(house.entries):
+    if not has_entry(house, number):
         return [NO_ENTRY]
-    wrong = house.entries[number - 1]
+    wrong = entry_of(house, number)
     if wrong.kind != TOLD or any([entry.reference == number for entry in house.entries]):
         return [NOT_CORRECTABLE]
     if entries_are_full(house):

@@ -19,6 +19,10 @@ def cost_of(account):
     return sum_of(account.lots)
 
 
+def cost_at_home(accounts):
+    return sum([cost_of(account).home for account in accounts])
+
+
 # None if the thing's rate is needed and is not there.
 def worth_there(house, account, total, day):
     if not is_thing(house, account.unit):

@@ -8,6 +8,12 @@ OPEN = [0]
 COIN = [1]
 REVALUE = [8]
 CLOSE = [9]
+TRIAL = [15]
+GAINS = [19]
+STATE = [24]
+
+FAR = 10 ** 18
+LAST_DAY = 3999
 
 
 def thing(coin):
@@ -46,6 +52,42 @@ def lots(number):
     return [12, number]
 
 
+def worth(number, day):
+    return [13, number, day]
+
+
+def tree(number):
+    return [14, number]
+
+
+def entry_info(number):
+    return [16, number]
+
+
+def known(number, entries):
+    return [17, number, entries]
+
+
+def known_on(number, day):
+    return [18, number, day]
+
+
+def would(number, many, there, home):
+    return [20, number, many, there, home]
+
+
+def rate_on(unit, day):
+    return [21, unit, day]
+
+
+def unit_told(unit):
+    return [22, unit]
+
+
+def account_told(number):
+    return [23, number]
+
+
 def split(flat):
     found = []
     place = 0
@@ -56,8 +98,12 @@ def split(flat):
     return found
 
 
+def flat(calls):
+    return [number for call in calls for number in call]
+
+
 def ask(calls):
-    return split(answers([number for call in calls for number in call]))
+    return split(answers(flat(calls)))
 
 
 def last(calls):
@@ -80,11 +126,13 @@ def dealt(number, many, there, home):
     return entry(number, many, there, home, 1, -home, -home, -home)
 
 
-# Tells all that calls 0 to 12 can show of a house, and goes on to use its numbers and its rates.
+# Tells all that can be shown of a house, and goes on to use its numbers and its rates.
 def probe():
-    calls = []
+    calls = [STATE, TRIAL, GAINS]
     for number in range(1, 25):
-        calls.extend([balance(number), lots(number)])
+        calls.extend([lots(number), account_told(number)])
+    for number in range(1, 11):
+        calls.extend([entry_info(number), unit_told(number), rate_on(number, LAST_DAY)])
     calls.extend([CLOSE, REVALUE])
     for number in range(1, 25):
         calls.append(balance(number))
@@ -92,7 +140,7 @@ def probe():
         calls.append(correct(number))
     for number in range(1, 25):
         calls.extend([balance(number), lots(number)])
-    calls.extend([COIN, thing(1), account(1), pass_days(1), OPEN])
+    calls.extend([COIN, thing(1), account(1), pass_days(1), OPEN, STATE])
     return calls
 
 
@@ -100,7 +148,17 @@ class LedgerCase(unittest.TestCase):
     def check_last(self, calls, answer):
         self.assertEqual(last(calls), answer)
 
+    # What each of the calls that change nothing answers behind the same calls before.
+    def check_each(self, before, answered):
+        told = ask(before + [call for call, answer in answered])[len(before):]
+        for (call, answer), found in zip(answered, told, strict=True):
+            self.assertEqual(found, answer, call)
+
     def check_refused(self, before, call, number):
         told = ask(before + [call] + probe())
         self.assertEqual(told[len(before)], [number], call)
         self.assertEqual(told[len(before) + 1:], ask(before + probe())[len(before):], call)
+
+    def check_changes_nothing(self, before, calls):
+        told = ask(before + calls + probe())
+        self.assertEqual(told[len(before) + len(calls):], ask(before + probe())[len(before):])

@@ -1,12 +1,18 @@
-"""The document's calls 0 to 12 told once more, slowly and by fractions, to hold the program against."""
+"""The document's calls told once more, slowly and by fractions, to hold the program against."""
 
+from copy import deepcopy
 from fractions import Fraction
 
 RANGES = {
     0: [], 1: [], 2: [(1, 10)], 3: [(1, 10), (0, 24), (0, 4)], 4: [(1, 10), (1, 10 ** 6), (1, 10 ** 6)],
     6: [(1, 150)], 7: [(1, 24), (1, 24), (-10 ** 9, 10 ** 9)], 8: [], 9: [], 10: [(1, 1000)],
-    11: [(1, 24)], 12: [(1, 24)],
+    11: [(1, 24)], 12: [(1, 24)], 13: [(1, 24), (0, 3999)], 14: [(1, 24)], 15: [], 16: [(1, 150)],
+    17: [(1, 24), (0, 150)], 18: [(1, 24), (0, 3999)], 19: [], 20: [(1, 24)] + [(-10 ** 9, 10 ** 9)] * 3,
+    21: [(1, 10), (0, 3999)], 22: [(1, 10)], 23: [(1, 24)], 24: [],
 }
+NAMES = ["start", "coin", "thing", "new", "tell", "post", "correct", "move", "revalue", "close", "wait", "balance",
+         "lots", "worth", "tree", "trial", "info", "known", "known_on", "gains", "would", "rate_on", "unit",
+         "account", "state"]
 
 
 class Refused(Exception):
@@ -36,6 +42,7 @@ class Model:
         self.unit = None
         self.day = 0
         self.rate = {}
+        self.rates = 0
         self.account = {}
         self.entry = {}
         self.done = [0, 0]
@@ -59,9 +66,7 @@ class Model:
         else:
             refuse(-1, any(not low <= x <= high for x, (low, high) in zip(rest, RANGES[number])))
         refuse(-2, number != 0 and self.unit is None)
-        names = ["start", "coin", "thing", "new", "tell", "post", "correct", "move", "revalue", "close", "wait",
-                 "balance", "lots"]
-        return getattr(self, "do_" + names[number])(*rest)
+        return getattr(self, "do_" + NAMES[number])(*rest)
 
     def do_start(self):
         refuse(-3, self.unit is not None)
@@ -84,12 +89,14 @@ class Model:
         refuse(-5, unit not in self.unit)
         refuse(-6, parent and parent not in self.account)
         refuse(-4, len(self.account) > 23)
-        self.account[len(self.account) + 1] = {"unit": unit, "rule": rule, "lots": [], "told": [0, 0]}
+        self.account[len(self.account) + 1] = {
+            "unit": unit, "parent": parent, "rule": rule, "lots": [], "told": [0, 0]}
         return [len(self.account)]
 
     def do_tell(self, unit, over, under):
         refuse(-5, unit == 1 or unit not in self.unit)
         self.rate[unit, self.day] = (over, under)
+        self.rates += 1
         return []
 
     def do_wait(self, days):
@@ -105,8 +112,9 @@ class Model:
             return not n == t == h
         return sign(t) == -sign(n) or sign(h) == -sign(n) or (self.unit[unit] == unit and t != n)
 
+    # A line is its account, how many, there, at home, and its gain.
     def put(self, kind, reference, lines):
-        self.entry[len(self.entry) + 1] = (kind, reference, lines)
+        self.entry[len(self.entry) + 1] = {"day": self.day, "kind": kind, "to": reference, "lines": lines}
         return len(self.entry)
 
     def do_post(self, lines, kind=0, reference=0):
@@ -114,12 +122,10 @@ class Model:
         refuse(-7, any(self.misfit(*line) for line in lines))
         refuse(-8, sum(line[3] for line in lines))
         refuse(-4, len(self.entry) > 149)
-        gain = [0, 0]
-        for account, n, t, h in lines:
-            price, rate = self.deal(self.account[account], n, t, h)
-            gain = [gain[0] + price, gain[1] + rate]
+        dealt = [(a, n, t, h) + self.deal(self.account[a], n, t, h) for a, n, t, h in lines]
+        gain = [sum(line[4] for line in dealt), sum(line[5] for line in dealt)]
         self.done = [self.done[0] + gain[0], self.done[1] + gain[1]]
-        return [self.put(kind, reference, lines)] + gain
+        return [self.put(kind, reference, dealt)] + gain
 
     def total(self, account):
         return sum(lot[0] for lot in account["lots"])
@@ -169,9 +175,9 @@ class Model:
 
     def do_correct(self, number):
         refuse(-9, number not in self.entry)
-        kind, reference, lines = self.entry[number]
-        refuse(-10, kind != 0 or any(other[1] == number for other in self.entry.values()))
-        return self.do_post([(a, -n, -t, -h) for a, n, t, h in lines], 1, number)
+        wrong = self.entry[number]
+        refuse(-10, wrong["kind"] != 0 or any(other["to"] == number for other in self.entry.values()))
+        return self.do_post([(a, -n, -t, -h) for a, n, t, h, price, rate in wrong["lines"]], 1, number)
 
     def do_move(self, first, second, n):
         refuse(-6, first not in self.account or second not in self.account)
@@ -182,29 +188,33 @@ class Model:
         refuse(-4, len(self.entry) > 149)
         moved = self.take(one, n)
         two["lots"].extend(moved)
-        return [self.put(2, 0, []), sum(lot[1] for lot in moved), sum(lot[2] for lot in moved)]
+        cost = [sum(lot[k] for lot in moved) for k in (1, 2)]
+        lines = [(first, -n, -cost[0], -cost[1], 0, 0), (second, n, cost[0], cost[1], 0, 0)]
+        return [self.put(2, 0, lines)] + cost
 
-    def latest(self, unit):
-        if unit == 1:
-            return 1, 1
-        days = [day for told, day in self.rate if told == unit and day <= self.day]
-        refuse(-12, not days)
-        return self.rate[unit, max(days)]
+    # The rate's over and under, and the day on which it was told.
+    def latest(self, unit, day):
+        while day >= 0 and (unit, day) not in self.rate:
+            day -= 1
+        refuse(-12, day < 0)
+        return self.rate[unit, day] + (day,)
 
-    def not_done(self, account):
-        unit = account["unit"]
-        if unit == 1 or not account["lots"]:
-            return [0, 0]
+    # Worth there and at home, and the gains not done.
+    def worth(self, account, day):
+        unit, lots = account["unit"], account["lots"]
+        if unit == 1 or not lots:
+            return [self.total(account)] * 2 + [0, 0]
+        coin = self.unit[unit]
         there = self.total(account)
-        if self.unit[unit] != unit:
-            there = part(there, *self.latest(unit))
-        rate = self.latest(self.unit[unit])
-        gain = part(there, *rate) - sum(lot[2] for lot in account["lots"])
-        price = part(there - sum(lot[1] for lot in account["lots"]), *rate)
-        return [price, gain - price]
+        if coin != unit:
+            there = part(there, *self.latest(unit, day)[:2])
+        rate = (1, 1) if coin == 1 else self.latest(coin, day)[:2]
+        home = part(there, *rate)
+        price = part(there - sum(lot[1] for lot in lots), *rate)
+        return [there, home, price, home - sum(lot[2] for lot in lots) - price]
 
     def do_revalue(self):
-        new = [self.not_done(account) for account in self.account.values()]
+        new = [self.worth(account, self.day)[2:] for account in self.account.values()]
         refuse(-4, len(self.entry) > 149)
         change = [0, 0]
         for account, told in zip(self.account.values(), new):
@@ -227,3 +237,70 @@ class Model:
         refuse(-6, number not in self.account)
         held = self.account[number]["lots"]
         return [len(held)] + [number for lot in held for number in lot]
+
+    def do_worth(self, number, day):
+        refuse(-6, number not in self.account)
+        return self.worth(self.account[number], day)
+
+    def is_below(self, number, top):
+        while number not in (0, top):
+            number = self.account[number]["parent"]
+        return number == top
+
+    def do_tree(self, top):
+        refuse(-6, top not in self.account)
+        found = [self.account[number] for number in self.account if self.is_below(number, top)]
+        return [len(found), sum(lot[2] for account in found for lot in account["lots"]),
+                sum(sum(account["told"]) for account in found)]
+
+    def do_trial(self):
+        held = {unit: 0 for unit in self.unit}
+        brought = {unit: 0 for unit in self.unit}
+        for account in self.account.values():
+            held[account["unit"]] += self.total(account)
+        for entry in self.entry.values():
+            for line in entry["lines"]:
+                brought[self.account[line[0]]["unit"]] -= line[1] if entry["kind"] < 2 else 0
+        cost = sum(lot[2] for account in self.account.values() for lot in account["lots"])
+        return [number for unit in self.unit for number in (held[unit], brought[unit])] + [cost] + self.done
+
+    def do_info(self, number):
+        refuse(-9, number not in self.entry)
+        entry = self.entry[number]
+        found = [entry["day"], entry["kind"], entry["to"], len(entry["lines"])]
+        return found + [number for line in entry["lines"] for number in line]
+
+    def do_known(self, number, n):
+        refuse(-6, number not in self.account)
+        lines = [line for k in self.entry if k <= n for line in self.entry[k]["lines"] if line[0] == number]
+        return [sum(line[1] for line in lines), sum(line[3] for line in lines)]
+
+    def do_known_on(self, number, day):
+        refuse(-6, number not in self.account)
+        return [sum(line[1] for entry in self.entry.values() for line in entry["lines"]
+                    if line[0] == number and entry["day"] <= day)]
+
+    def do_gains(self):
+        told = [account["told"] for account in self.account.values()]
+        return self.done + self.closed + [sum(gain[k] for gain in told) for k in range(2)]
+
+    # Deals on a copy of the account.
+    def do_would(self, number, n, t, h):
+        refuse(-6, number not in self.account)
+        refuse(-7, self.misfit(number, n, t, h))
+        return list(self.deal(deepcopy(self.account[number]), n, t, h))
+
+    def do_rate_on(self, unit, day):
+        refuse(-5, unit == 1 or unit not in self.unit)
+        return list(self.latest(unit, day))
+
+    def do_unit(self, unit):
+        refuse(-5, unit not in self.unit)
+        return [int(self.unit[unit] != unit), self.unit[unit]]
+
+    def do_account(self, number):
+        refuse(-6, number not in self.account)
+        return [self.account[number][name] for name in ("unit", "parent", "rule")]
+
+    def do_state(self):
+        return [self.day, len(self.unit), self.rates, len(self.account), len(self.entry)]

@@ -156,6 +156,11 @@ class HeldTest(LedgerCase):
             self.check_last(calls, [0, 2, -sign * 3, 0])
             self.check_last(calls + [lots(4)], [0, 1, sign, sign, sign * 2])
 
+    def test_lots_that_cost_nothing(self):
+        calls = house() + [dealt(4, 5, 0, 0), dealt(4, 5, 9, 0), dealt(4, -2, -6, -8)]
+        self.check_last(calls, [0, 3, 8, 0])
+        self.check_last(calls + [lots(4)], [0, 2, 3, 0, 0, 5, 9, 0])
+
     def test_cut_lot_keeps_its_place(self):
         calls = house(2) + [dealt(3, 4, 4, 4), dealt(3, 4, 40, 40), dealt(3, 4, 8, 8), dealt(3, -1, 0, 0), lots(3)]
         self.check_last(calls, [0, 3, 4, 4, 4, 3, 30, 30, 4, 8, 8])

@@ -84,6 +84,8 @@ class RefusedTest(LedgerCase):
         self.check_refused(house(), entry(1, 5, 4, 5, 3, -5, -5, -5), -7)
         self.check_refused(house(), entry(1, 5, 5, 4, 3, -4, -4, -4), -7)
         self.check_refused(house(), entry(3, 5, 5, 5, 1, -5, 5, -5), -7)
+        self.check_refused(house(), entry(1, 5, 6, 5, 3, -5, -5, -5), -7)
+        self.check_refused(house(), entry(1, 5, 5, 6, 3, -6, -6, -6), -7)
 
     def test_other_sign(self):
         self.check_refused(house(), entry(3, 5, -5, 5, 1, -5, -5, -5), -7)
@@ -91,6 +93,8 @@ class RefusedTest(LedgerCase):
         self.check_refused(house(), entry(3, -5, 5, -5, 1, 5, 5, 5), -7)
         self.check_refused(house(), entry(3, -5, -5, 5, 1, -5, -5, -5), -7)
         self.check_refused(house(), entry(2, 5, 5, -5, 1, 5, 5, 5), -7)
+        self.check_refused(house(), entry(3, 5, -5, 0), -7)
+        self.check_refused(house(), entry(3, -5, 5, 0), -7)
         self.check_refused(house(), entry(2, -5, -5, 5, 1, -5, -5, -5), -7)
 
     def test_0_is_of_no_sign(self):
@@ -103,6 +107,8 @@ class RefusedTest(LedgerCase):
     def test_coin_unlike_there(self):
         self.check_refused(house(), entry(2, 5, 4, 5, 1, -5, -5, -5), -7)
         self.check_refused(house(), entry(2, 5, 0, 5, 1, -5, -5, -5), -7)
+        self.check_refused(house(), entry(2, 5, 6, 5, 1, -5, -5, -5), -7)
+        self.check_refused(house(), entry(2, -5, -4, -5, 1, 5, 5, 5), -7)
         self.check_last(house() + [dealt(2, 5, 5, 9)], [0, 1, 0, 0])
         self.check_last(house() + [dealt(3, 5, 4, 9)], [0, 1, 0, 0])
 

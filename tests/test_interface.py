@@ -2,13 +2,12 @@ import inspect
 import unittest
 
 from coinledgers.houses import answers
-from tests.ledger import OPEN, ask, dealt, house, probe
+from tests.ledger import GAINS, OPEN, STATE, TRIAL, account_told, ask, dealt, entry_info, flat, house, known, known_on
+from tests.ledger import probe, rate_on, tree, unit_told, worth, would
 
-CALLS = house(2) + [dealt(4, 10, 100, 200), [4, 2, 3, 1], [4, 4, 9, 1]] + probe()
-
-
-def flat(calls):
-    return [number for call in calls for number in call]
+TELLINGS = [worth(4, 0), tree(4), TRIAL, entry_info(1), known(4, 1), known_on(4, 0), GAINS, would(4, -10, -150, -450),
+            rate_on(4, 0), unit_told(4), account_told(4), STATE]
+CALLS = house(2) + [dealt(4, 10, 100, 200), [4, 2, 3, 1], [4, 4, 9, 1]] + TELLINGS + probe()
 
 
 class InterfaceTest(unittest.TestCase):
@@ -19,6 +18,13 @@ class InterfaceTest(unittest.TestCase):
     def test_counts_before_answers(self):
         self.assertEqual(answers([0, 1, 3, 1, 0, 0, 11, 1, 12, 1, 2, 0]),
                          [1, 0, 2, 0, 2, 2, 0, 1, 6, 0, 0, 0, 0, 0, 0, 2, 0, 0, 1, -1])
+
+    def test_counts_before_tellings(self):
+        before = flat(CALLS[:11])
+        wanted = [5, 0, 90, 270, -30, 100, 4, 0, 1, 200, 0, 12, 0, -200, 200, 0, 0, 0, 0, 10, -10, 0, 0, 0,
+                  17, 0, 0, 0, 0, 2, 4, 10, 100, 200, 0, 0, 1, -200, -200, -200, 0, 0, 3, 0, 10, 200, 2, 0, 10,
+                  7, 0, 0, 0, 0, 0, 0, 0, 3, 0, 150, 100, 4, 0, 9, 1, 0, 3, 0, 1, 2, 4, 0, 4, 0, 2, 6, 0, 0, 4, 2, 4, 1]
+        self.assertEqual(answers(before + flat(TELLINGS)), answers(before) + wanted)
 
     def test_one_call(self):
         self.assertEqual(answers([0]), [1, 0])
@@ -63,5 +69,13 @@ class InterfaceTest(unittest.TestCase):
         told = ask(house() + [[5, 24] + lines] * 150 + [[12, 4]] * 242)
         self.assertEqual(told[-1], [0, 900] + [1, 1, 0] * 900)
 
-    def test_400_calls_of_100_numbers(self):
+    def test_400_calls_that_tell(self):
+        lines = [4, 1, 1, 0] * 6
+        before = house() + [[5, 24] + lines] * 150
+        told = ask(before + (TELLINGS * 21)[:242])
+        self.assertEqual(told[158 + 5], [0, 900])
+        for place in range(158, 400 - 12):
+            self.assertEqual(told[place], told[place + 12])
+
+    def test_160_entries_of_100_numbers(self):
         self.assertEqual(ask([[5, 100] + [10 ** 18] * 100] * 160), [[-1]] * 160)

@@ -90,6 +90,56 @@ class LanguageTest(unittest.TestCase):
                 if isinstance(node, ast.Call) and isinstance(node.func, ast.Attribute):
                     self.assertIn(node.func.attr, METHODS)
 
+    def test_top_of_a_file(self):
+        for path, source, tree in self.each():
+            self.assertIsInstance(tree.body[0], ast.Expr)
+            names = []
+            for node in tree.body[1:]:
+                self.assertIsInstance(node, (ast.ImportFrom, ast.FunctionDef, ast.ClassDef, ast.Assign))
+                names.extend([node.name] if hasattr(node, "name") else [])
+                if isinstance(node, ast.Assign):
+                    names.append(node.targets[0].id)
+                    held = [part for part in ast.walk(node.value) if part is not node.value]
+                    self.assertFalse([part for part in held if isinstance(part, (ast.List, ast.Dict, ast.Name))])
+            self.assertEqual(len(names), len(set(names)))
+
+    # What a file's top holds is asked by an index alone, so that nothing of it is handed on or changed.
+    def test_kept_values_are_only_read(self):
+        for path, source, tree in self.each():
+            kept = [node.targets[0].id for node in tree.body if isinstance(node, ast.Assign)
+                    and isinstance(node.value, (ast.List, ast.Dict, ast.Tuple))]
+            indexed = [node.value for node in ast.walk(tree) if isinstance(node, ast.Subscript)
+                       and isinstance(node.ctx, ast.Load)]
+            for node in ast.walk(tree):
+                if isinstance(node, ast.Name) and isinstance(node.ctx, ast.Load) and node.id in kept:
+                    self.assertIn(node, indexed)
+
+    def test_locals_are_not_called_like_imports_or_classes(self):
+        for path, source, tree in self.each():
+            taken = [node.name for node in tree.body if isinstance(node, ast.ClassDef)]
+            for node in tree.body:
+                taken.extend([name.name for name in node.names] if isinstance(node, ast.ImportFrom) else [])
+            for function in ast.walk(tree):
+                if isinstance(function, (ast.FunctionDef, ast.Lambda)):
+                    self.assertFalse(set(taken) & set(bound_names(function)))
+
+    def test_is_stands_beside_none(self):
+        for path, source, tree in self.each():
+            for node in ast.walk(tree):
+                if isinstance(node, ast.Compare) and isinstance(node.ops[0], (ast.Is, ast.IsNot)):
+                    self.assertIsInstance(node.comparators[0], ast.Constant)
+                    self.assertIn(node.comparators[0].value, (None, True, False))
+
+    def test_functions(self):
+        for path, source, tree in self.each():
+            for node in ast.walk(tree):
+                if isinstance(node, ast.FunctionDef):
+                    self.assertFalse(node.decorator_list)
+                if isinstance(node, (ast.FunctionDef, ast.Lambda)):
+                    self.assertIsNone(node.args.vararg)
+                    self.assertIsNone(node.args.kwarg)
+                    self.assertFalse(node.args.kwonlyargs)
+
     def test_words(self):
         for path, source, tree in self.each():
             words = re.findall(r"[A-Za-z_]+", source)

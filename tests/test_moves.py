@@ -73,7 +73,7 @@ class MoveTest(LedgerCase):
     def test_misfit(self):
         before = two_houses() + THREE_LOTS
         for call in (move(2, 2, 1), move(2, 4, 1), move(2, 1, 1), move(1, 5, 1), move(1, 1, 1), move(2, 6, 1),
-                     move(2, 2, 0), move(5, 1, 0)):
+                     move(2, 2, 0), move(5, 1, 0), move(4, 2, 1), move(6, 2, 1), move(1, 2, 1)):
             self.check_refused(before, call, -7)
 
     def test_not_movable(self):
@@ -90,6 +90,12 @@ class MoveTest(LedgerCase):
     def test_against_what_the_second_holds(self):
         self.check_refused(two_houses() + THREE_LOTS + [dealt(3, -1, -1, -1)], move(2, 3, 1), -11)
         self.check_refused(two_houses() + [dealt(2, -5, -5, -5), dealt(3, 1, 1, 1)], move(2, 3, -1), -11)
+
+    def test_lots_that_cost_nothing(self):
+        before = two_houses() + [dealt(2, 5, 0, 0), dealt(2, 5, 0, 0)]
+        self.check_last(before + [move(2, 3, 7), lots(2)], [0, 1, 3, 0, 0])
+        self.check_last(before + [move(2, 3, 7), lots(3)], [0, 2, 5, 0, 0, 2, 0, 0])
+        self.check_refused(before + [dealt(3, -1, 0, 0)], move(2, 3, 1), -11)
 
     def test_151st(self):
         full = two_houses() + [dealt(2, 5, 5, 5)] + [CLOSE] * 148
